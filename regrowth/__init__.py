@@ -1,0 +1,1 @@
+"""Regrowth: a text that is read anew only where it changed."""
