@@ -1,4 +1,4 @@
-"""What can be seen of the rules L1 to L28 in the package's own files."""
+"""Some of the rules L1 to L28, those that are easy to see in the files; the others are not tested here."""
 
 import ast
 import builtins

@@ -215,8 +215,8 @@ class TakenTest(unittest.TestCase):
         self.check("@+q", "q" * 1000, 0, 1000, 1001, list(range(1000)))
 
 
-class AllShortOnesTest(unittest.TestCase):
-    """Every form of one, two and three parts out of some, against every short text."""
+class ManyShortOnesTest(unittest.TestCase):
+    """Forms of one, two and three parts, put together from a few, on short texts (for three parts a third of them)."""
 
     ONE = [
         (deed, signs, many)
