@@ -1,4 +1,4 @@
-"""Some of the rules L1 to L28, those that are easy to see in the files; the others are not tested here."""
+"""Some of the rules L1 to L28, those that can be seen in the files by their form; the others are not tested here."""
 
 import ast
 import builtins
@@ -26,6 +26,21 @@ WORDS_NOWHERE = re.compile(
 NAMES_NOWHERE = set(
     "register mro elements open input version_info with_traceback add_note format format_map".split()
 )
+NO_NAMES = set(
+    "attrgetter breakpoint builtins compile copyright credits delattr dir eval exec exit gc getattr globals hasattr "
+    "help id importlib license locals methodcaller os quit setattr super type vars sys chr print".split()
+)
+WALKED = {"zip", "enumerate", "reversed", "range"}
+WALKED_METHODS = {"items", "keys", "values"}
+WALKERS = {"list", "tuple", "dict", "sorted", "sum", "any", "all", "enumerate", "zip"}
+KEYWORDS = {
+    "sorted": {"key", "reverse"}, "min": {"key", "default"}, "max": {"key", "default"}, "sum": {"start"},
+    "enumerate": {"start"}, "zip": {"strict"},
+}
+ERRORS = {name for name in ALLOWED if name.endswith(("Error", "Exception", "Iteration"))}
+CHANGING = {"append", "clear", "extend", "insert", "pop", "remove", "reverse", "setdefault", "update"}
+VALUE_NAMES = set("count index title find get join lower upper split strip copy add".split())
+PYTHONS_OWN = {name for kind in (str, int, list, dict, set, bytes, tuple) for name in dir(kind)}
 SPECIAL_METHODS = {"__init__", "__eq__", "__repr__", "__str__", "__len__"}
 NODES_NOWHERE = (
     ast.With, ast.Match, ast.Delete, ast.Global, ast.Nonlocal, ast.Assert, ast.Yield, ast.YieldFrom, ast.Await,
@@ -141,7 +156,167 @@ class LanguageTest(unittest.TestCase):
             if isinstance(node, ast.Call) and isinstance(node.func, ast.Attribute):
                 self.assertIn(node.func.attr, METHODS | own | kept, where)
 
+    def each_with_parent(self):
+        for path, text in sources().items():
+            tree = ast.parse(text)
+            for parent in ast.walk(tree):
+                for node in ast.iter_child_nodes(parent):
+                    yield f"{path.name}:{getattr(node, 'lineno', 0)}", node, parent
+
+    def test_walked_at_once(self):
+        for where, node, parent in self.each_with_parent():
+            if isinstance(node, ast.Call) and self.is_walked(node):
+                self.assertTrue(self.walks(parent, node), where)
+
+    def is_walked(self, node):
+        if isinstance(node.func, ast.Attribute):
+            return node.func.attr in WALKED_METHODS
+        return isinstance(node.func, ast.Name) and node.func.id in WALKED
+
+    def walks(self, parent, node):
+        if isinstance(parent, (ast.For, ast.comprehension)):
+            return parent.iter is node
+        if isinstance(parent, ast.Call) and isinstance(parent.func, ast.Name):
+            if parent.func.id == "zip":
+                return node in parent.args
+            if parent.func.id in ("min", "max"):
+                return parent.args == [node]
+            return parent.func.id in WALKERS and parent.args[0] is node
+        return isinstance(parent, ast.Call) and isinstance(parent.func, ast.Attribute) and parent.func.attr == "join"
+
+    def test_sets_are_not_kept(self):
+        for where, node, parent in self.each_with_parent():
+            self.assertNotIsInstance(node, ast.Set, where)
+            if isinstance(node, ast.Call) and isinstance(node.func, ast.Name) and node.func.id in ("set", "frozenset"):
+                beside = isinstance(parent, (ast.Compare, ast.BinOp))
+                within = isinstance(parent, ast.Call) and getattr(parent.func, "id", "") in ("sorted", "len")
+                self.assertTrue(beside or within and not parent.keywords, where)
+
+    def test_what_a_loop_walks_is_not_changed_in_it(self):
+        for where, loop in self.each_node():
+            if isinstance(loop, ast.For):
+                walked = {ast.unparse(node) for node in ast.walk(loop.iter) if isinstance(node, (ast.Name, ast.Attribute))}
+                if isinstance(loop.iter, ast.Call) and getattr(loop.iter.func, "id", "") in ("list", "sorted", "range"):
+                    walked = set()
+                for node in [inner for row in loop.body for inner in ast.walk(row)]:
+                    if isinstance(node, ast.Call) and isinstance(node.func, ast.Attribute):
+                        if node.func.attr in CHANGING:
+                            self.assertNotIn(ast.unparse(node.func.value), walked, where)
+                    if isinstance(node, ast.Subscript) and isinstance(node.ctx, ast.Store):
+                        self.assertNotIn(ast.unparse(node.value), walked, where)
+
+    def test_keywords(self):
+        for where, node in self.each_node():
+            if isinstance(node, ast.Call) and node.keywords:
+                known = KEYWORDS.get(getattr(node.func, "id", ""), set())
+                self.assertLessEqual({keyword.arg for keyword in node.keywords}, known, where)
+
+    def test_no_annotations_and_plain_defaults(self):
+        for where, node in self.each_node():
+            if isinstance(node, ast.FunctionDef):
+                self.assertIsNone(node.returns, where)
+                for default in node.args.defaults:
+                    self.assertIsInstance(default, ast.Constant, where)
+            if isinstance(node, ast.arg):
+                self.assertIsNone(node.annotation, where)
+
+    def test_locals_are_not_called_like_what_a_file_draws_or_defines(self):
+        for path, text in sources().items():
+            tree = ast.parse(text)
+            taken = {alias.asname or alias.name for node in tree.body if isinstance(node, ast.ImportFrom) for alias in node.names}
+            taken |= {node.name for node in tree.body if isinstance(node, (ast.ClassDef, ast.FunctionDef))}
+            for def_node in [node for node in ast.walk(tree) if isinstance(node, (ast.FunctionDef, ast.Lambda))]:
+                for node in ast.walk(def_node):
+                    where = f"{path.name}:{getattr(node, 'lineno', 0)}"
+                    if isinstance(node, ast.arg):
+                        self.assertNotIn(node.arg, taken, where)
+                    if isinstance(node, ast.Name) and isinstance(node.ctx, ast.Store):
+                        self.assertNotIn(node.id, taken, where)
+
+    def test_what_is_drawn_is_defined_there_and_no_two_files_draw_from_one_another(self):
+        defined, drawn = {}, {}
+        for path, text in sources().items():
+            tree = ast.parse(text)
+            name = "regrowth." + path.stem
+            defined[name] = {n.name for n in tree.body if isinstance(n, (ast.FunctionDef, ast.ClassDef))}
+            defined[name] |= {n.targets[0].id for n in tree.body if isinstance(n, ast.Assign)}
+            drawn[name] = [node for node in tree.body if isinstance(node, ast.ImportFrom)]
+        for name, rows in drawn.items():
+            for row in rows:
+                for alias in row.names:
+                    self.assertIn(alias.name, defined[row.module], name)
+                    self.assertIsNone(alias.asname, name)
+        ready = set()
+        while True:
+            more = {n for n in drawn if n not in ready and all(row.module in ready for row in drawn[n])}
+            if not more:
+                break
+            ready |= more
+        self.assertEqual(ready, set(drawn))
+
+    def test_what_is_drawn_is_used(self):
+        for path, text in sources().items():
+            tree = ast.parse(text)
+            used = {node.id for node in ast.walk(tree) if isinstance(node, ast.Name)}
+            for node in tree.body:
+                if isinstance(node, ast.ImportFrom):
+                    for alias in node.names:
+                        self.assertIn(alias.name, used, path.name)
+
+    def test_methods_and_values_of_objects(self):
+        methods, kept = set(), set()
+        for where, node in self.each_node():
+            if isinstance(node, ast.ClassDef):
+                own = [inner.name for inner in node.body if isinstance(inner, ast.FunctionDef)]
+                self.assertEqual(len(own), len(set(own)), where)
+                methods |= set(own)
+            if isinstance(node, ast.Attribute) and isinstance(node.ctx, ast.Store):
+                self.assertIsInstance(node.value, ast.Name, where)
+                self.assertTrue(node.attr in VALUE_NAMES or node.attr not in PYTHONS_OWN, where)
+                self.assertNotIn(node.attr, ("args", "sort", "format", "encode"), where)
+                kept.add(node.attr)
+        self.assertEqual(methods & kept, set())
+        self.assertEqual((methods - SPECIAL_METHODS) & (PYTHONS_OWN - METHODS - {"add", "discard"}), set())
+
+    def test_errors(self):
+        own = {node.name for where, node in self.each_node() if isinstance(node, ast.ClassDef)}
+        for where, node in self.each_node():
+            if isinstance(node, ast.ExceptHandler):
+                self.assertIsInstance(node.type, ast.Name, where)
+                self.assertIn(node.type.id, own | {"KeyError", "ZeroDivisionError", "StopIteration"}, where)
+            if isinstance(node, ast.Raise):
+                self.assertIsInstance(node.exc, ast.Call, where)
+                self.assertIn(node.exc.func.id, own, where)
+
+    def test_classes_stand_at_the_top_and_are_not_handed_on(self):
+        own = {node.name for where, node in self.each_node() if isinstance(node, ast.ClassDef)}
+        for where, node, parent in self.each_with_parent():
+            if isinstance(node, ast.ClassDef):
+                self.assertIsInstance(parent, ast.Module, where)
+            if isinstance(node, ast.Name) and node.id in own | ERRORS:
+                called = isinstance(parent, ast.Call) and parent.func is node
+                based = isinstance(parent, (ast.ClassDef, ast.ExceptHandler))
+                init = isinstance(parent, ast.Attribute) and parent.attr == "__init__"
+                self.assertTrue(called or based or init, where)
+
+    def test_what_a_top_holds_is_only_read(self):
+        for path, text in sources().items():
+            tree = ast.parse(text)
+            tops = {n.targets[0].id: n.value for n in tree.body if isinstance(n, ast.Assign)}
+            for name, value in tops.items():
+                for inner in list(ast.walk(value))[1:]:
+                    self.assertNotIsInstance(inner, (ast.List, ast.Dict, ast.Call), f"{path.name} {name}")
+            held = {name for name, value in tops.items() if isinstance(value, (ast.List, ast.Dict))}
+            for parent in ast.walk(tree):
+                for node in ast.iter_child_nodes(parent):
+                    if isinstance(node, ast.Name) and node.id in held and isinstance(node.ctx, ast.Load):
+                        read = isinstance(parent, (ast.Subscript, ast.Compare, ast.For, ast.comprehension))
+                        got = isinstance(parent, ast.Attribute) and parent.attr in ("get", "items", "keys", "values")
+                        copied = isinstance(parent, ast.Call) and getattr(parent.func, "id", "") in ("list", "dict", "len")
+                        self.assertTrue(read or got or copied, f"{path.name}:{node.lineno} {node.id}")
+
     def check_name(self, name, where):
+        self.assertNotIn(name, NO_NAMES, where)
         self.assertNotIn(name, NAMES_NOWHERE, where)
         self.assertTrue(name in SPECIAL_METHODS or not name.startswith("_"), f"{where} {name}")
 
