@@ -67,3 +67,93 @@ def unfit(many_old, many_new):
         (at, gone, come + 1), (at, gone + 1, come), (at, gone, BIG), (BIG, BIG, BIG),
         (many_old + 1, -1, come), (BIG, -BIG, come),
     ]
+
+
+def right_trees(rules, kinds):
+    """All right trees for the row of kinds, as steps: told from points 18 and 21 alone."""
+    sorts = {rule[0] for rule in rules}
+
+    def least(rule, place):
+        sort, rank, side, parts = rule
+        ranks = sorted({other[1] for other in rules if other[0] == parts[place]})
+        edge = {0: "left", len(parts) - 1: "right"}.get(place)
+        if parts[place] != sort or edge is None:
+            return ranks[0]
+        return rank if side == edge else [other for other in ranks if other > rank][0]
+
+    told = {}
+
+    def nodes(sort, begin, end):
+        """Pairs (rank, steps) for each node of the sort over the words from begin ahead of end."""
+        key = (sort, begin, end)
+        if key not in told:
+            # Within itself a node stands over fewer words, or there would be trees without end.
+            told[key] = []
+            told[key] = [
+                (rule[1], steps + (number,))
+                for number, rule in enumerate(rules) if rule[0] == sort
+                for steps in rows(rule, 0, begin, end)
+            ]
+        return told[key]
+
+    def rows(rule, place, begin, end):
+        """The steps of the parts from that place on, over these words."""
+        parts = rule[3]
+        if place == len(parts):
+            return [()] if begin == end else []
+        found = []
+        for middle in range(begin + 1, end - (len(parts) - place - 1) + 1):
+            if parts[place] in sorts:
+                floor = least(rule, place)
+                heads = [steps for rank, steps in nodes(parts[place], begin, middle) if rank >= floor]
+            else:
+                heads = [(-1,)] if middle == begin + 1 and kinds[begin] == parts[place] else []
+            if heads:
+                tails = rows(rule, place + 1, middle, end)
+                found += [head + tail for head in heads for tail in tails]
+        return found
+
+    return [list(steps) for rank, steps in nodes(rules[0][0], 0, len(kinds))]
+
+
+# Grammars that are good, for tests of what holds for each.
+SUM = [
+    ("e", 1, "left", ("e", "plus", "e")), ("e", 2, "left", ("e", "times", "e")),
+    ("e", 3, "none", ("minus", "e")), ("e", 4, "right", ("e", "hat", "e")),
+    ("e", 5, "none", ("n",)), ("e", 5, "none", ("l", "e", "r")),
+]
+LISTS = [
+    ("s", 0, "none", ("l", "row", "r")), ("s", 0, "none", ("l", "r")), ("s", 0, "none", ("n",)),
+    ("row", 0, "left", ("row", "c", "s")), ("row", 0, "none", ("s",)),
+]
+CHAIN = [
+    ("s", 3, "none", ("let", "n", "is", "e")), ("s", 3, "none", ("e",)),
+    ("e", 0, "none", ("not", "e")), ("e", 1, "none", ("f", "eq", "f")), ("e", 2, "none", ("f",)),
+    ("f", 0, "right", ("g", "hat", "f")), ("f", 9, "none", ("g",)), ("g", 0, "none", ("n",)),
+    ("g", 0, "none", ("l", "e", "r")),
+]
+MIDST = [
+    ("e", 0, "none", ("if", "e", "then", "e", "else", "e")), ("e", 1, "left", ("e", "plus", "e")),
+    ("e", 2, "none", ("n",)),
+]
+TAIL = [("t", 0, "right", ("n", "t")), ("t", 1, "none", ("n", "x"))]
+GOOD_GRAMMARS = {"sum": SUM, "lists": LISTS, "chain": CHAIN, "midst": MIDST, "tail": TAIL}
+
+
+def kinds_of(rules):
+    """The kinds of words in the rules, sorted."""
+    sorts = {rule[0] for rule in rules}
+    return sorted({part for rule in rules for part in rule[3] if part not in sorts})
+
+
+def chance_grammar(seed):
+    """A short list of rules, always the same for the same seed; many are refused."""
+    chance = random.Random(seed)
+    sorts = ["s", "t", "u"][:chance.randint(1, 3)]
+    names = sorts + ["a", "b", "c", "d"]
+    rules = []
+    for number in range(chance.randint(2, 6)):
+        sort = "s" if number == 0 else chance.choice(sorts)
+        parts = tuple(chance.choice(names) for _ in range(chance.choice([1, 1, 2, 2, 3, 3, 4])))
+        rules.append((sort, chance.randint(0, 2), chance.choice(["left", "right", "none"]), parts))
+    return rules
