@@ -157,3 +157,51 @@ def chance_grammar(seed):
         parts = tuple(chance.choice(names) for _ in range(chance.choice([1, 1, 2, 2, 3, 3, 4])))
         rules.append((sort, chance.randint(0, 2), chance.choice(["left", "right", "none"]), parts))
     return rules
+
+
+def goes_on(plain, kinds):
+    """How many of the kinds can be taken, one behind another, so that some row that has a right tree goes on so;
+    and whether the row of all of them has one. By sets of items with the place where each began, without tables."""
+
+    def with_all_brought(items, place, sets):
+        waiting = list(items)
+        found = set()
+        while waiting:
+            item = waiting.pop()
+            if item in found:
+                continue
+            found.add(item)
+            p, stood, begin = item
+            symbol, parts, rule = plain[p]
+            if stood < len(parts):
+                waiting += [(q, 0, place) for q, other in enumerate(plain) if other[0] == parts[stood]]
+            else:
+                # No rule is without parts, so what it stands behind lies in an earlier set.
+                waiting += [
+                    (q, there + 1, other) for q, there, other in sets[begin]
+                    if there < len(plain[q][1]) and plain[q][1][there] == symbol
+                ]
+        return found
+
+    sets = [with_all_brought([(0, 0, 0)], 0, [])]
+    for place, kind in enumerate(kinds):
+        moved = [
+            (p, stood + 1, begin) for p, stood, begin in sets[-1]
+            if stood < len(plain[p][1]) and plain[p][1][stood] == kind
+        ]
+        if not moved:
+            return place, False
+        sets.append(with_all_brought(moved, place + 1, sets))
+    return len(kinds), (0, 1, 0) in sets[-1]
+
+
+def good_chance_grammars(seeds, good):
+    """Those of the grammars of these seeds that are good; `good` tells the tables of one, or is refused."""
+    told = []
+    for seed in seeds:
+        rules = chance_grammar(seed)
+        try:
+            told.append((rules, good(rules)))
+        except ValueError:
+            continue
+    return told
