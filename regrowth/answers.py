@@ -29,7 +29,7 @@ class Answers:
                 own.append(judged[mark][3])
             kinds.append(own)
         self.judged = judged
-        return [list(own) for own in kinds]
+        return kinds
 
     def name_asked(self, rule, parts):
         """The name that a row of the rule asks for, or None."""

@@ -1,5 +1,6 @@
 """Promises 1, 5, 50 and 51, and over the whole program 2 to 4, 21, 26, 34, 41, 42 and 47."""
 
+import copy
 import unittest
 
 from helping import BIG, changed, each_change, right_trees, some_changes
@@ -76,7 +77,8 @@ def bare(desk):
 
 
 def all_told(desk):
-    return bare(desk), desk.words(), desk.sheet()
+    """All that the desk tells, in lists that nobody else has."""
+    return copy.deepcopy((bare(desk), desk.words(), desk.sheet(), desk.kinds(), desk.asides()))
 
 
 class WrittenTest(unittest.TestCase):

@@ -1,5 +1,6 @@
 """Promises 37, 39 to 43, and of 2, 4, 5 and 31 what touches a page."""
 
+import copy
 import unittest
 
 from helping import BIG, LISTS, SUM, changed, each_change, some_changes
@@ -267,7 +268,7 @@ class ChangeTest(unittest.TestCase):
 
 class RefusedTest(unittest.TestCase):
     def check_refused(self, error, page, at, gone, put):
-        before = (page.shown(), page.words(), page.pieces(), page.sheet())
+        before = copy.deepcopy((page.shown(), page.words(), page.pieces(), page.sheet()))
         with self.subTest(at=at, gone=gone):
             with self.assertRaises(GrowthError) as caught:
                 page.change(at, gone, put)
@@ -325,7 +326,8 @@ class RefusedTest(unittest.TestCase):
 
 class TheAskersOwnTest(unittest.TestCase):
     def told(self, page):
-        return page.shown(), page.words(), page.pieces(), page.sheet()
+        """All that the page tells, in lists that nobody else has."""
+        return copy.deepcopy((page.shown(), page.words(), page.pieces(), page.sheet()))
 
     def test_lists_that_were_told(self):
         page = page_of("a+b;c{d}")

@@ -130,6 +130,9 @@ class NotRightTest(unittest.TestCase):
         self.check_not([-1, 2, 4], ["n"], LISTS)
         self.check_not([-1, 7], ["n"], CHAIN)
         self.check_not([-1, 7, 6, 4], ["n"], CHAIN)
+        rules = [("s", 0, "none", ("t", "x")), ("t", 0, "none", ("n",))]
+        self.check_not([-1, 1], ["n"], rules)
+        self.assertIs(is_right(rules, [-1, 1, -1, 0], ["n", "x"]), True)
 
     def test_parts_in_another_order(self):
         self.check_not([-1, -1, 4, -1, 5], ["r", "n", "l"])
